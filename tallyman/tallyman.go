@@ -1,0 +1,40 @@
+// Package tallyman: counts of many kinds, read as they were at one moment: see DOC.md.
+package tallyman
+
+import (
+	"tallyman/api"
+	"tallyman/series"
+)
+
+// Plain writes a series' text in order (P3, P4).
+func Plain(text string) (string, api.Errno, int) {
+	read, e, at := series.Read(text)
+	if e != api.OK {
+		return "", e, at
+	}
+	return read.Plain(), api.OK, 0
+}
+
+// Board keeps families of counts.
+type Board struct{}
+
+// New makes a board (P5).
+func New() *Board { return nil }
+
+// Family makes a family (P6).
+func (b *Board) Family(name string, kind int, limits []int) api.Errno { return api.OK }
+
+// Change changes a series (P7).
+func (b *Board) Change(series string, n int) api.Errno { return api.OK }
+
+// Drop takes a series away (P7).
+func (b *Board) Drop(series string) api.Errno { return api.OK }
+
+// Open begins a reading (P9).
+func (b *Board) Open(from string) (int, api.Errno) { return 0, api.OK }
+
+// Page tells a reading's next lines (P9).
+func (b *Board) Page(reading int, most int) ([]string, bool, api.Errno) { return nil, false, api.OK }
+
+// Tick lets time go by (P9).
+func (b *Board) Tick() {}
