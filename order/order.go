@@ -1,4 +1,5 @@
-// Package order: sorting and looking up, written once for texts and for numbers.
+// Package order: sorting, looking up and laying together, written once for texts and
+// for numbers.
 package order
 
 import (
@@ -23,13 +24,30 @@ func Find[T any, K Key](items []T, key func(T) K, wanted K) (int, bool) {
 // or, if a key stands twice, no list and the place of the first item whose key stood
 // ahead of it already. It tells that place since the sorted list no longer shows it.
 func Sorted[T any, K Key](items []T, key func(T) K) ([]T, int) {
-	sorted := make([]T, 0, len(items))
+	sorted := []T{}
 	for i, item := range items {
-		at, found := Find(sorted, key, key(item))
-		if found {
+		if _, found := Find(sorted, key, key(item)); found {
 			return nil, i
 		}
-		sorted = slices.Insert(sorted, at, item)
+		sorted = Together(sorted, items[i:i+1], key)
 	}
 	return sorted, len(items)
 }
+
+// Together lays two lists, each sorted by its keys, together into a new sorted list.
+// Where a key stands in both, the item of the second takes the place of the first's.
+func Together[T any, K Key](first, second []T, key func(T) K) []T {
+	together := make([]T, 0, len(first)+len(second))
+	for _, item := range second {
+		at, found := Find(first, key, key(item))
+		together = append(append(together, first[:at]...), item)
+		if found {
+			at++
+		}
+		first = first[at:]
+	}
+	return append(together, first...)
+}
+
+// Itself is the key of what is ordered by itself.
+func Itself[K Key](item K) K { return item }

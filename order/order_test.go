@@ -97,3 +97,43 @@ func TestSortedNothing(t *testing.T) {
 		t.Errorf("Sorted of nothing = %v, %d", sorted, at)
 	}
 }
+
+func TestTogetherByText(t *testing.T) {
+	for _, c := range []struct {
+		first, second, want []pair
+	}{
+		{nil, nil, nil},
+		{nil, []pair{{"a", 2}}, []pair{{"a", 2}}},
+		{[]pair{{"a", 1}}, nil, []pair{{"a", 1}}},
+		{[]pair{{"a", 1}, {"c", 1}}, []pair{{"b", 2}}, []pair{{"a", 1}, {"b", 2}, {"c", 1}}},
+		{[]pair{{"b", 1}, {"c", 1}}, []pair{{"a", 2}, {"d", 2}, {"e", 2}}, []pair{{"a", 2}, {"b", 1}, {"c", 1}, {"d", 2}, {"e", 2}}},
+		{[]pair{{"a", 1}, {"b", 1}, {"c", 1}}, []pair{{"b", 2}, {"c", 2}}, []pair{{"a", 1}, {"b", 2}, {"c", 2}}},
+		{[]pair{{"a", 1}}, []pair{{"a", 2}, {"a1", 2}}, []pair{{"a", 2}, {"a1", 2}}},
+	} {
+		if together := Together(c.first, c.second, textOf); !slices.Equal(together, c.want) {
+			t.Errorf("Together of %v and %v = %v, want %v", c.first, c.second, together, c.want)
+		}
+	}
+}
+
+func TestTogetherByNumber(t *testing.T) {
+	first, second := []int{-10, 3, 9}, []int{-9, 3, 10}
+	together := Together(first, second, Itself[int])
+	if want := []int{-10, -9, 3, 9, 10}; !slices.Equal(together, want) {
+		t.Errorf("%v, want %v", together, want)
+	}
+}
+
+func TestTogetherIsNewMemory(t *testing.T) {
+	first := append(make([]int, 0, 4), 1, 3)
+	second := append(make([]int, 0, 4), 2)
+	for _, lists := range [][2][]int{{first, second}, {first, nil}, {nil, second}, {first, {0}}, {first, {4}}} {
+		together := Together(lists[0], lists[1], Itself[int])
+		for i := range together[:cap(together)] {
+			together[:cap(together)][i] = 99
+		}
+	}
+	if !slices.Equal(first[:4], []int{1, 3, 0, 0}) || !slices.Equal(second[:4], []int{2, 0, 0, 0}) {
+		t.Errorf("what was laid together was changed: %v, %v", first[:4], second[:4])
+	}
+}

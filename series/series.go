@@ -40,6 +40,16 @@ func Read(text string) (Series, api.Errno, int) {
 	return Series{name: read.name, labels: sorted}, api.OK, 0
 }
 
+// IsName tells whether the text is a name.
+func IsName(text string) bool {
+	r := reader{text: text}
+	_, ok := r.name()
+	return ok && r.ended()
+}
+
+// Name gives the name ahead of the labels.
+func (s Series) Name() string { return s.name }
+
 // Plain writes the plain form, in new memory.
 func (s Series) Plain() string {
 	var out strings.Builder

@@ -4,6 +4,7 @@ package tallyman
 import (
 	"tallyman/api"
 	"tallyman/series"
+	"tallyman/tally"
 )
 
 // Plain writes a series' text in order (P3, P4).
@@ -16,19 +17,23 @@ func Plain(text string) (string, api.Errno, int) {
 }
 
 // Board keeps families of counts.
-type Board struct{}
+type Board struct {
+	present tally.Tally
+}
 
 // New makes a board (P5).
-func New() *Board { return nil }
+func New() *Board { return &Board{} }
 
 // Family makes a family (P6).
-func (b *Board) Family(name string, kind int, limits []int) api.Errno { return api.OK }
+func (b *Board) Family(name string, kind int, limits []int) api.Errno {
+	return b.present.Family(name, kind, limits)
+}
 
 // Change changes a series (P7).
-func (b *Board) Change(series string, n int) api.Errno { return api.OK }
+func (b *Board) Change(series string, n int) api.Errno { return b.present.Change(series, n) }
 
 // Drop takes a series away (P7).
-func (b *Board) Drop(series string) api.Errno { return api.OK }
+func (b *Board) Drop(series string) api.Errno { return b.present.Drop(series) }
 
 // Open begins a reading (P9).
 func (b *Board) Open(from string) (int, api.Errno) { return 0, api.OK }
