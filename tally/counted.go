@@ -4,6 +4,7 @@ import "tallyman/api"
 
 // counted is a series and its numbers.
 type counted struct {
+	age    int
 	plain  string
 	number int                // of a Histogram the sum
 	all    int                // of a Histogram: how many numbers were counted
@@ -11,6 +12,12 @@ type counted struct {
 }
 
 func plainOf(c *counted) string { return c.plain }
+
+func (c *counted) copied(age int) *counted {
+	made := *c
+	made.age = age
+	return &made
+}
 
 func inBounds(n int) bool { return -api.MaxNumber <= n && n <= api.MaxNumber }
 

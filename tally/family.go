@@ -10,6 +10,7 @@ import (
 
 // family keeps its series in the order of their plain forms.
 type family struct {
+	age    int
 	name   string
 	kind   int
 	limits []int // of a Histogram alone
@@ -19,8 +20,26 @@ type family struct {
 func nameOf(f *family) string { return f.name }
 
 // newFamily copies what it keeps: it is the caller's, who may change it later.
-func newFamily(name string, kind int, limits []int) *family {
-	return &family{name: strings.Clone(name), kind: kind, limits: slices.Clone(limits)}
+func newFamily(age int, name string, kind int, limits []int) *family {
+	return &family{age: age, name: strings.Clone(name), kind: kind, limits: slices.Clone(limits)}
+}
+
+// copied gives a family of that age with a list of its own, of the same series. The
+// limits stay shared, since they are never changed.
+func (f *family) copied(age int) *family {
+	made := *f
+	made.age = age
+	made.series = slices.Clone(f.series)
+	return &made
+}
+
+// own gives the series at that place to who changes it: the series itself, or a copy
+// that stands in its place from now on. The family is of the tally's age already.
+func (f *family) own(at int) *counted {
+	if f.series[at].age < f.age {
+		f.series[at] = f.series[at].copied(f.age)
+	}
+	return f.series[at]
 }
 
 // limitsFit tells whether there are families of that kind with these limits.
@@ -57,7 +76,8 @@ func (f *family) find(plain string) (int, bool) {
 
 // add makes a series with 0 for everything; it keeps the plain form as it is.
 func (f *family) add(plain string) {
-	f.series = order.Together(f.series, []*counted{{plain: plain}}, plainOf)
+	made := []*counted{{age: f.age, plain: plain}}
+	f.series = order.Together(f.series, made, plainOf)
 }
 
 func (f *family) remove(at int) {

@@ -102,19 +102,25 @@ func (m model) drop(s text) api.Errno {
 	return api.OK
 }
 
-func (m model) told() []string {
+// told gives the lines of the families whose names are not below from.
+func (m model) told(from string) []string {
 	var lines []string
 	for _, name := range slices.Sorted(maps.Keys(m)) {
+		if name < from {
+			continue
+		}
 		f := m[name]
-		lines = append(lines, fmt.Sprintf("# %s %d %v", name, f.kind, f.limits))
+		lines = append(lines, "# "+name+" "+[]string{"", "counter", "gauge", "histogram"}[f.kind])
 		for _, plain := range slices.Sorted(maps.Keys(f.series)) {
-			lines = append(lines, plain+" "+f.numbers(f.series[plain]))
+			for _, numbers := range f.numbers(f.series[plain]) {
+				lines = append(lines, plain+" "+numbers)
+			}
 		}
 	}
 	return lines
 }
 
-func (f *modelFamily) numbers(changes []int) string {
+func (f *modelFamily) numbers(changes []int) []string {
 	sum, upto := 0, make([]int, len(f.limits))
 	for _, n := range changes {
 		sum += n
@@ -132,14 +138,31 @@ func (f *modelFamily) numbers(changes []int) string {
 	}
 	switch f.kind {
 	case api.Gauge:
-		return fmt.Sprint(changes[len(changes)-1])
+		return []string{fmt.Sprint(changes[len(changes)-1])}
 	case api.Counter:
-		return fmt.Sprint(sum)
+		return []string{fmt.Sprint(sum)}
 	}
-	return fmt.Sprint(upto, " ", len(changes), " ", sum)
+	var lines []string
+	for i, limit := range f.limits {
+		lines = append(lines, fmt.Sprintf("upto %d %d", limit, upto[i]))
+	}
+	return append(lines, fmt.Sprintf("all %d sum %d", len(changes), sum))
 }
 
 func oneOf[T any](r *rand.Rand, list []T) T { return list[r.IntN(len(list))] }
+
+// taken is a moment, and the lines that it must have whatever comes later.
+type taken struct {
+	moment Moment
+	lines  []string
+}
+
+func (m taken) wantLines(t *testing.T, behind string) {
+	t.Helper()
+	if lines := linesOf(m.moment); !slices.Equal(lines, m.lines) {
+		t.Fatalf("behind %s: told\n%s\nwant\n%s", behind, strings.Join(lines, "\n"), strings.Join(m.lines, "\n"))
+	}
+}
 
 func TestAgainstModel(t *testing.T) {
 	r := rand.New(rand.NewPCG(1, 2))
@@ -148,16 +171,22 @@ func TestAgainstModel(t *testing.T) {
 	names := []string{"", "9x", "f0", "f1", "f2", "f3", "f4", "f5", "f6", "f7", "f8"}
 	limits := [][]int{nil, nil, nil, {0}, {1, 10}, {-1e9, 0, 1, 1e9}, {1, 1}, {1, 2, 3, 4, 5}, {0, 1e9 + 1}}
 	met := map[string]int{}
-	for range 200 {
+	for range 100 {
 		counts, m := &Tally{}, model{}
-		for step := range 400 {
+		var moments []taken
+		for range 400 {
 			var call string
 			var e, want api.Errno
 			switch act := r.IntN(20); {
-			case act < 3:
+			case act < 1:
+				from := oneOf(r, []string{"", "", "a", "f0", "f3", "f3_", "f7", "g"})
+				call = fmt.Sprintf("Moment(%q)", from)
+				moments = append(moments, taken{counts.Moment(from), m.told(from)})
+				moments = moments[max(0, len(moments)-4):]
+			case act < 4:
 				name, kind, l := oneOf(r, names), r.IntN(5), oneOf(r, limits)
 				call, e, want = fmt.Sprintf("Family(%q, %d, %v)", name, kind, l), counts.Family(name, kind, l), m.family(name, kind, l)
-			case act < 5:
+			case act < 6:
 				s := oneOf(r, texts)
 				call, e, want = fmt.Sprintf("Drop(%q)", s.written), counts.Drop(s.written), m.drop(s)
 			default:
@@ -165,11 +194,12 @@ func TestAgainstModel(t *testing.T) {
 				call, e, want = fmt.Sprintf("Change(%q, %d)", s.written, n), counts.Change(s.written, n), m.change(s, n)
 			}
 			if e != want {
-				t.Fatalf("step %d: %s = %d, want %d", step, call, e, want)
+				t.Fatalf("%s = %d, want %d", call, e, want)
 			}
 			met[fmt.Sprintf("%.4s %d", call, e)]++
-			if lines := told(counts); !slices.Equal(lines, m.told()) {
-				t.Fatalf("step %d, behind %s: told\n%s\nwant\n%s", step, call, strings.Join(lines, "\n"), strings.Join(m.told(), "\n"))
+			taken{Moment{counts.families}, m.told("")}.wantLines(t, call)
+			for _, earlier := range moments {
+				earlier.wantLines(t, call)
 			}
 		}
 	}

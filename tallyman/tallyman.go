@@ -3,6 +3,7 @@ package tallyman
 
 import (
 	"tallyman/api"
+	"tallyman/reading"
 	"tallyman/series"
 	"tallyman/tally"
 )
@@ -16,9 +17,10 @@ func Plain(text string) (string, api.Errno, int) {
 	return read.Plain(), api.OK, 0
 }
 
-// Board keeps families of counts.
+// Board keeps families of counts, and the readings of them.
 type Board struct {
-	present tally.Tally
+	present  tally.Tally
+	readings reading.Readings
 }
 
 // New makes a board (P5).
@@ -36,10 +38,12 @@ func (b *Board) Change(series string, n int) api.Errno { return b.present.Change
 func (b *Board) Drop(series string) api.Errno { return b.present.Drop(series) }
 
 // Open begins a reading (P9).
-func (b *Board) Open(from string) (int, api.Errno) { return 0, api.OK }
+func (b *Board) Open(from string) (int, api.Errno) { return b.readings.Open(&b.present, from) }
 
 // Page tells a reading's next lines (P9).
-func (b *Board) Page(reading int, most int) ([]string, bool, api.Errno) { return nil, false, api.OK }
+func (b *Board) Page(reading int, most int) ([]string, bool, api.Errno) {
+	return b.readings.Page(reading, most)
+}
 
 // Tick lets time go by (P9).
-func (b *Board) Tick() {}
+func (b *Board) Tick() { b.readings.Tick() }
